@@ -154,6 +154,13 @@ func TestFormOfNoTxn(t *testing.T) {
 		"a Give to nobody":             of(op(api.Give, "k", "8", 1)),
 	} {
 		refused(t, name, plainBytes(x), api.ErrTxn)
+		for _, n := range amounts {
+			if n < 0 {
+				below := txn.Copy(x)
+				below.Ops[len(below.Ops)-1].N = n
+				refused(t, name+", and an N below nothing", plainBytes(below), api.ErrTxn)
+			}
+		}
 	}
 	refused(t, "1024 operations", plainBytes(of(slices.Repeat(every()[:1], 1024)...)), api.ErrBytes)
 	for at := range good.Ops {
